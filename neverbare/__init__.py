@@ -1,0 +1,1 @@
+"""Pictures printed from plates that slip, judged for all slips."""
