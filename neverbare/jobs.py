@@ -1,7 +1,7 @@
 """Jobs: a field and its plates in the order of printing."""
 
 from neverbare.cells import check_axis, is_cell
-from neverbare.errors import BadCell, BadJob, BadPlate, BadSize, HasInk, NoInk, NoPlate
+from neverbare.errors import BadCell, BadJob, BadSize, HasInk, NoInk, NoPlate
 from neverbare.plates import Plate
 from neverbare.ratios import is_sequence, is_whole
 
@@ -144,10 +144,9 @@ class Job:
             raise BadJob(0, "width")
         if self.height * size > 8:
             raise BadJob(0, "height")
-        if any([part * size > 2 for plate in self.plates for part in plate.bound]):
-            raise BadPlate("bound")
         plates = []
         for plate in self.plates:
+            # A finer plate fits here, so if it refuses anything, it is its bound.
             bound = (plate.bound[0] * size, plate.bound[1] * size)
             plates.append(Plate(_finer_cells(plate.cells, size), plate.hiding, bound))
         return Job(self.width * size, self.height * size, plates)

@@ -63,13 +63,12 @@ def never_mixed(job, region):
 
 
 def _are_pairs(job, reasons):
-    """Whether the reasons name all couples of plates in order."""
-    pairs = number_pairs(len(job.plates))
-    if len(reasons) != len(pairs):
+    """Whether a thing is a sequence of reasons that name all couples of plates in order."""
+    if not is_sequence(reasons):
         return False
     if not all([is_whole(plate) for reason in reasons for plate in reason[:2]]):
         return False
-    return [tuple(reason[:2]) for reason in reasons] == pairs
+    return [tuple(reason[:2]) for reason in reasons] == number_pairs(len(job.plates))
 
 
 def _is_true(job, cell, reason):
@@ -93,7 +92,7 @@ def unmixed_fault(job, region, unmixed):
     if not are_cells([row[0] for row in unmixed.rows], cells):
         return (0, "cells")
     for index, (cell, reasons) in enumerate(unmixed.rows):
-        if not is_sequence(reasons) or not _are_pairs(job, reasons):
+        if not _are_pairs(job, reasons):
             return (index, "pairs")
         if not all([_is_true(job, cell, reason) for reason in reasons]):
             return (index, "reason")

@@ -165,6 +165,7 @@ class TestSeenOtherwise(unittest.TestCase):
         raises(self, BadJob, {"index": 0, "what": "width"}, Job(5, 5, [moving]).finer, 2)
         raises(self, BadJob, {"index": 0, "what": "width"}, Job(3, 1, [moving]).finer, 3)
         raises(self, BadJob, {"index": 0, "what": "height"}, Job(4, 5, [moving]).finer, 2)
+        raises(self, BadJob, {"index": 0, "what": "height"}, Job(2, 3, [moving]).finer, 3)
         raises(self, BadPlate, {"what": "bound"}, Job(4, 4, [Plate([], False, (0, 0)), moving]).finer, 2)
         raises(self, BadPlate, {"what": "bound"}, Job(2, 2, [Plate([], False, (1, 0))]).finer, 3)
         self.assertEqual(Job(4, 4, [Plate([], False, (1, 1))]).finer(2), Job(8, 8, [Plate([], False, (2, 2))]))

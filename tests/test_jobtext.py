@@ -38,6 +38,8 @@ class TestJobText(unittest.TestCase):
 
     def test_parse(self):
         self.assertEqual(parse_job(TEXT), JOB)
+        great = Job(8, 8, [Plate([(7, 7)], True, (2, 2))])
+        self.assertEqual(parse_job(job_text(great)), great)
         self.assertEqual(parse_job("job 1 1\nplate clear 2 1\n#"), Job(1, 1, [Plate([(0, 0)], False, (2, 1))]))
 
     def test_what_is_written_is_read(self):

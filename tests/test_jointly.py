@@ -213,6 +213,8 @@ class TestSlipsForPicture(unittest.TestCase):
                         ((0,), (True,)), ((2,), ()), ((-1,), ())):
             self.assertIsNone(slips_for_picture(JOB, region, picture))
         self.assertIsNone(slips_for_picture(JOB, [], ((),)))
+        for thing in (None, 0, "", {}, (None, None), (0, 1)):
+            self.assertIsNone(slips_for_picture(JOB, region, thing))
 
 
 class TestResults(unittest.TestCase):

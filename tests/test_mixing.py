@@ -126,8 +126,17 @@ class TestUnmixedFault(unittest.TestCase):
         self.assertEqual(unmixed_fault(JOB, [(1, 0), (4, 0)], Unmixed((((1, 0), self.GOOD), ((4, 0), ())))),
                          (1, "pairs"))
 
+    def test_no_reasons_at_all(self):
+        for reasons in (None, 0, {}):
+            self.assertEqual(unmixed_fault(JOB, [(1, 0)], Unmixed((((1, 0), reasons),))), (0, "pairs"))
+
     def test_reason(self):
         one, two, three = self.GOOD
+        for bad in ((0, 1), (0, 1, "hides"), (0, 1, "hides", 1, 1)):
+            self.assertEqual(self.judge(bad, two, three), (0, "reason"), bad)
+        for word in ("beneath", "", None, "Under"):
+            self.assertEqual(unmixed_fault(JOB, [(3, 0)], Unmixed((
+                ((3, 0), ((0, 1, word, 1), (0, 2, "under", 1), (1, 2, "off", 2))),))), (0, "reason"))
         for bad in ((0, 1, "hides", 0), (0, 1, "hides", 2), (0, 1, "hides", True), (0, 1, "off", 0), (0, 1, "off", 1),
                     (0, 1, "off", 2), (0, 1, "under", 1), (0, 1, "under", 0), (0, 1, "under", 2), (0, 1, "hidden", 1),
                     (0, 1, None, 1), (0, 1, "hides", 3), (0, 1, "hides", -1), (0, 1, "hides", None),

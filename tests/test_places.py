@@ -133,6 +133,9 @@ class TestSlipsFor(unittest.TestCase):
         self.assertIsNone(slips_for(job, (0, 0), (0, True)))
         self.assertIsNone(slips_for(job, (0, 0), (False, 1)))
         self.assertIsNone(slips_for(job, (0, 0), ()))
+        for thing in (None, 0, "", {}, (None,), ((),)):
+            self.assertIsNone(slips_for(job, (0, 0), thing))
+            self.assertIsNone(slips_for(EXAMPLE, (2, 0), thing))
 
 
 class TestSurely(unittest.TestCase):

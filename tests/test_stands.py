@@ -225,6 +225,8 @@ class TestCorners(unittest.TestCase):
         for thing in ((), (0, 0, 0, 0), (3,), (-3,), (True,), ((0,),), ("0",), {0}, (0.0,), *ODD_THINGS):
             wrong(0, "row", [thing, None])
             wrong(1, "row", [(0,), thing, None])
+        for row in ((0, 3), (-3, 0), (0, True), (None, 0)):
+            wrong(0, "row", [row, None])
         wrong(1, "row", [(0, 0), (0,)])
         wrong(1, "row", [(1,), (0, 0)])
         wrong(2, "row", [(1, 1), (0, 1), (0, 0, 0)])
