@@ -23,7 +23,7 @@ def _check_plates(width, height, plates):
             raise BadJob(index, "cell")
 
 
-def _check_field_cell(job, plate, cell):
+def check_field_cell(job, plate, cell):
     """The cell of the field as a tuple; the plate number is checked before it."""
     check_plate(job, plate)
     if not is_cell(cell):
@@ -32,6 +32,12 @@ def _check_field_cell(job, plate, cell):
     if not is_whole(x, 0, job.width - 1) or not is_whole(y, 0, job.height - 1):
         raise BadCell(cell)
     return (x, y)
+
+
+def with_all_cells(job, rows):
+    """The job with other ink of all its plates: a sequence of cells for each plate."""
+    plates = [_with_cells(plate, cells) for plate, cells in zip(job.plates, rows)]
+    return Job(job.width, job.height, plates)
 
 
 def _with_plate(job, number, plate):
@@ -84,7 +90,7 @@ class Job:
 
     def with_ink(self, plate, cell):
         """The job with one ink more."""
-        ink = _check_field_cell(self, plate, cell)
+        ink = check_field_cell(self, plate, cell)
         old = self.plates[plate]
         if ink in old.cells:
             raise HasInk(plate, ink)
@@ -92,7 +98,7 @@ class Job:
 
     def without_ink(self, plate, cell):
         """The job with one ink less."""
-        ink = _check_field_cell(self, plate, cell)
+        ink = check_field_cell(self, plate, cell)
         old = self.plates[plate]
         if ink not in old.cells:
             raise NoInk(plate, ink)

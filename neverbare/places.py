@@ -63,8 +63,11 @@ def _sums(one, other):
     return tuple([a + b for a, b in zip(one, other)])
 
 
-def pictures_of_cells(job, cells):
-    """Couples (picture, least whole slips) of the cells' middles, ascending by picture."""
+def codes_of_cells(job, cells):
+    """Couples (codes, least whole slips), each codes once, in the order of the slips.
+
+    The codes tell for each of the cells which plates are on over its middle: bit p for plate p.
+    """
     rows = [(tuple([0 for _ in cells]), ())]
     weight = 1
     for plate in job.plates:
@@ -74,14 +77,24 @@ def pictures_of_cells(job, cells):
             for codes, slips in rows for marks, slip in layer
         ]
         weight = weight + weight
-    # The rows are in the order of their slips, so the first one of a picture has its least slips.
+    return rows
+
+
+def pictures_of_cells(job, cells):
+    """Couples (picture, least whole slips) of the cells' middles, ascending by picture."""
     showings = showings_by_code(job)
     found = {}
-    for codes, slips in rows:
+    # The rows are in the order of their slips, so the first one of a picture has its least slips.
+    for codes, slips in codes_of_cells(job, cells):
         picture = tuple([showings[code] for code in codes])
         if picture not in found:
             found[picture] = slips
     return tuple([(picture, found[picture]) for picture in sorted(list(found))])
+
+
+def sheet_cells_about(job):
+    """The sheet cells of the field and all those over which a plate can come, ascending."""
+    return [(x, y) for x in range(-2, job.width + 2) for y in range(-2, job.height + 2)]
 
 
 def showings_at(job, cell):

@@ -6,6 +6,14 @@ from neverbare.ratios import floor_of, is_sequence, is_whole, minus
 from neverbare.slips import check_place, check_slips
 
 
+def line_through(row, ratio):
+    """The first plate that has a line at this coordinate, or None; the row is one axis of slips."""
+    for plate, slip in enumerate(row):
+        if minus(ratio, slip)[1] == 1:
+            return plate
+    return None
+
+
 def _lies_on_line(slip, place):
     """Whether a place lies on a line of a plate with this slip."""
     return minus(place[0], slip[0])[1] == 1 or minus(place[1], slip[1])[1] == 1

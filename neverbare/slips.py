@@ -28,6 +28,15 @@ def check_slips(job, slips):
     return tuple([tuple(slip) for slip in slips])
 
 
+def are_slips(job, thing):
+    """Whether a thing of any kind is slips of the job."""
+    try:
+        check_slips(job, thing)
+    except BadSlips:
+        return False
+    return True
+
+
 def is_whole_slips(job, slips):
     """Whether the slips of the job are whole."""
     return all([ratio[1] == 1 for slip in check_slips(job, slips) for ratio in slip])

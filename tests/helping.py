@@ -166,3 +166,128 @@ def bad_regions(case, call, *more):
     for thing in ((21, 0), (0, -21), (0,), (True, 0), [0, False], None, 7):
         raises(case, BadRegion, {"index": 1}, call, EXAMPLE, [(0, 0), thing, None], *more)
         raises(case, BadRegion, {"index": 0}, call, EXAMPLE, (thing,), *more)
+
+
+ZERO = (0, 1)
+STILL = (ZERO, ZERO)
+
+# What is wrong as an argument beside a job of two plates with the bounds (1, 0), each with the
+# attributes of the error.
+BAD_SLIPS = (
+    [(thing, {"index": 0, "what": "many"})
+     for thing in ((), [STILL], [STILL] * 3, [None], {STILL: 1, ZERO: 1}, *ODD_THINGS)]
+    + [((STILL, thing), {"index": 1, "what": "slip"})
+       for thing in ((), (ZERO,), (ZERO, 0), [[0, 1], ZERO], ((True, 1), ZERO), (ZERO, ZERO, ZERO), *ODD_THINGS)]
+    + [([thing, None], {"index": 0, "what": "bound"})
+       for thing in (((2, 1), ZERO), (ZERO, (1, 100)), ((-101, 100), ZERO))]
+)
+BAD_KINDS = [
+    (thing, {}) for thing in ("Bare", "alone", (), ("alone",), ("alone", 2), ("shows", -1), ("bare", 0),
+                              ("shows", True), ("alone", 0, 0), {"alone": 0, "shows": 1}, *ODD_THINGS)]
+BAD_AXES = [(thing, {"axis": thing}) for thing in (2, -1, (0,), *ODD_THINGS)]
+BAD_COUPLES = ((), (0,), (0, 0), (1, 0), (0, 1, 2), (-21, 0), (0, 21), (False, 3), [0, True], ((0, 1), (1, 1)),
+               {0: 1, 1: 2}, *ODD_THINGS)
+BAD_WINDOWS = [(thing, {"what": "window"}) for thing in BAD_COUPLES]
+BAD_BANDS = [(thing, {"what": "band"}) for thing in BAD_COUPLES]
+BAD_RATIOS = (0, 1, (2, 4), (1, 0), (1, -1), [1, 2], (True, 1), (1,), *ODD_THINGS)
+BAD_PLACES = [(thing, {}) for thing in ((), (ZERO,), (ZERO, ZERO, ZERO), (ZERO, 0), ([0, 1], ZERO), *ODD_THINGS)]
+BAD_GROUPS = [(thing, {}) for thing in ((), [], (1, 0), (0, 0), (2,), (0, -1), (-1,), (-1, 0), (0, 1, 2), (False,),
+                                        (0, True), {0: 1}, *ODD_THINGS)]
+BAD_PLATES = [(thing, {"plate": thing}) for thing in (2, -1, (0,), *ODD_THINGS)]
+BAD_REGIONS = (
+    [(thing, {"index": 0}) for thing in ([(0, 0)] * 49, {(0, 0): 1}, *ODD_THINGS)]
+    + [([(0, 0), thing, None], {"index": 1}) for thing in ((21, 0), (0,), (True, 0), None, 7)]
+)
+
+
+def refuses(case, call, good, at, error, wrong):
+    """Wrong things as argument number at are refused, whatever the arguments behind it are."""
+    for thing, attributes in wrong:
+        for behind in ([object() for _ in good[at + 1:]], good[at + 1:]):
+            raises(case, error, attributes, call, *good[:at], thing, *behind)
+
+
+def number(ratio):
+    return Fraction(*ratio)
+
+
+def plain_kind(showing, kind):
+    """Whether a showing is of a kind, as [2.13] says it."""
+    if isinstance(kind, str):
+        return (kind == "bare" and showing == ()) or (kind == "mixed" and len(showing) >= 2)
+    return showing == (kind[1],) if kind[0] == "alone" else kind[1] in showing
+
+
+def all_kinds(job):
+    plates = range(len(job.plates))
+    return ["bare", "mixed", *[(word, plate) for word in ("alone", "shows") for plate in plates]]
+
+
+def drawn_place(draws, job, bottoms=(2, 3, 4, 5, 7)):
+    """A place on the field or around it."""
+    def along(size):
+        bottom = draws.one_of(bottoms)
+        return as_ratio(Fraction(draws.below((size + 4) * bottom) - 2 * bottom, bottom))
+    return along(job.width), along(job.height)
+
+
+def on_no_line(job, slips, place):
+    return all(plain_on(plate, slip, place) is not None for plate, slip in zip(job.plates, slips))
+
+
+def whole_showing(job, slips, cell):
+    """What a sheet cell shows at whole slips, reckoned apart from the package, but faster."""
+    shown = ()
+    for number in reversed(range(len(job.plates))):
+        (u, _), (v, _) = slips[number]
+        plate = job.plates[number]
+        if (cell[0] - u, cell[1] - v) in plate.cells:
+            shown = (number, *shown)
+            if plate.hiding:
+                break
+    return shown
+
+
+def at_axis(axis, along, across):
+    """The place with these two coordinates along and across an axis."""
+    return (along, across) if axis == 0 else (across, along)
+
+
+def plain_runs(job, slips, axis, across, window, kind):
+    """All runs on a line between two numbers, as fractions: cut at all lines, middles asked."""
+    low, high = Fraction(window[0]), Fraction(window[1])
+    cuts = {low, high}
+    for slip in slips:
+        cuts |= {whole + number(slip[axis]) for whole in range(low.__floor__() - 3, high.__floor__() + 4)}
+    cuts = sorted(cut for cut in cuts if low <= cut <= high)
+    found = []
+    for start, end in zip(cuts, cuts[1:]):
+        if plain_kind(plain_showing(job, slips, at_axis(axis, as_ratio((start + end) / 2), across)), kind):
+            if found and found[-1][1] == start:
+                found[-1] = (found[-1][0], end)
+            else:
+                found.append((start, end))
+    return found
+
+
+def plain_lines(slips, axis, band):
+    """A line in each piece into which the plates' lines part a band, as ratios."""
+    cuts = {Fraction(band[0]), Fraction(band[1])}
+    for slip in slips:
+        cuts |= {whole + number(slip[1 - axis]) for whole in range(band[0] - 3, band[1] + 3)}
+    cuts = sorted(cut for cut in cuts if band[0] <= cut <= band[1])
+    return [as_ratio((start + end) / 2) for start, end in zip(cuts, cuts[1:])]
+
+
+def drawn_window(draws, size, room=2):
+    """A window on a field of this size or a bit beyond it."""
+    low = draws.below(size) - (draws.below(3) == 0)
+    return low, low + 1 + draws.below(size + room)
+
+
+def drawn_case(draws, job):
+    """An axis, a window, a band and a kind."""
+    axis = draws.below(2)
+    sizes = (job.width, job.height)
+    return (axis, drawn_window(draws, sizes[axis]), drawn_window(draws, sizes[1 - axis], 1),
+            draws.one_of(all_kinds(job)))

@@ -33,6 +33,41 @@ INTERFACE = {
         check_stand(stand); stand_from(corners); check_bounds(bounds); all_stands(bounds); count_stands(bounds);
         corners_of(stand); lies_at_edge(one, other)""",
     "passing": "stands_between(row, other); apart_stand(one, other); apart_of(row); all_apart(bounds)",
+    "spots": """spot_at(row, ratio); middle_of(row, spot); cells_under(stand, spot);
+        slips_for_spots(job, slips, spot_x, spot_y); stands_of(job, slips); check_stands(job, stands);
+        picture_of(job, stands, span_x, span_y); table_at(job, stands)""",
+    "areas": """area_at(job, slips, region, kind); whole_parts(job, slips, region, kind);
+        greatest_area(job, region, kind); least_area(job, region, kind); greatest_fault(job, region, kind, extent);
+        least_fault(job, region, kind, extent); slips_of_area(job, region, kind, area)""",
+    "unlike": "check_comparable(one, other); check_order(job, order); shown_by(job, order, slips, place)",
+    "unseen": """unseen_inks(job); seen_at(job, plate, cell); cover_of(job, plate, cell);
+        seen_fault(job, plate, cell, seen); cover_fault(job, plate, cell, rows)""",
+    "leastjob": """least_job(job); greatest_job(job); spare_inks(job); count_alike(job); alike_jobs(job);
+        is_between(low, job, high)""",
+    "alike": "looks_alike(one, other); unlike_fault(one, other, unlike)",
+    "exchange": """orders_alike(job); may_exchange(job, plate); exchange_fault(job, plate, unlike);
+        way_of_exchanges(job, order); way_fault(job, order, way); may_switch(job, plate);
+        switch_fault(job, plate, unlike)""",
+    "runs": """check_window(window, what='window'); runs_at(job, slips, axis, across, window, kind);
+        run_fault(job, axis, window, kind, run); widest_at(job, slips, axis, window, band, kind)""",
+    "widest": "widest_run(job, axis, window, band, kind); widest_fault(job, axis, window, band, kind, run)",
+    "pushing": """carry_run(job, axis, window, kind, run, push); pushes_of(job, axis, window, kind, run);
+        whole_run(job, axis, window, kind, run)""",
+    "rectangles": """rectangle_fault(job, window, band, kind, rectangle);
+        whole_rectangle(job, window, band, kind, rectangle); greatest_rectangles(job, window, band, kind);
+        rectangle_for(job, window, band, kind, width, height)""",
+    "sure": """sure_stretches(job, axis, window, band, kind); surely_inked(job, axis, window, band);
+        narrowest_line(job, axis, window, band, kind); narrow_fault(job, axis, window, band, kind, narrow)""",
+    "pieces": """check_group(job, group); pieces_at(job, slips, group); holes_at(job, slips, group);
+        piece_at(job, slips, group, place)""",
+    "ways": """way_between(job, slips, group, place, other);
+        between_fault(job, slips, group, place, other, way)""",
+    "samples": "apart_at(job, slips); apart_samples(job)",
+    "together": """always_together(job, group); parted_fault(job, group, parted); counts_at_all(job, group);
+        piece_counts(job, group); hole_counts(job, group); holding_slips(job, group, plate)""",
+    "touching": "touch_at(job, slips, one, other); may_touch(job, one, other); must_touch(job, one, other)",
+    "needs": """check_lot(job, lot); ink_of(job); with_lot(job, lot); without_lot(job, lot);
+        lacking_cells(job, plate, cell); ink_for(job, region, choice); helping_ink(job, region)""",
 }
 
 CLASSES = {
@@ -49,6 +84,16 @@ CLASSES = {
     ("mixing", "Mixed"): "__init__(self, cell, slips); __eq__(self, other)",
     ("jointly", "BareAt"): "__init__(self, slips); __eq__(self, other)",
     ("jointly", "Covered"): "__init__(self, plate, rows); __eq__(self, other)",
+    ("areas", "Extent"): "__init__(self, size, slips); __eq__(self, other)",
+    ("unlike", "Unlike"): "__init__(self, slips, place, showing, other); __eq__(self, other)",
+    ("unseen", "Seen"): "__init__(self, slips, place); __eq__(self, other)",
+    ("runs", "Run"): "__init__(self, slips, across, low, high); __eq__(self, other)",
+    ("pushing", "Push"): "__init__(self, part, by); __eq__(self, other)",
+    ("rectangles", "Rectangle"): "__init__(self, slips, low, high); __eq__(self, other)",
+    ("sure", "Narrow"): "__init__(self, width, slips, across); __eq__(self, other)",
+    ("together", "Together"): "__init__(self, samples); __eq__(self, other)",
+    ("together", "Parted"): "__init__(self, slips, place, other); __eq__(self, other)",
+    ("together", "Counts"): "__init__(self, least, least_slips, most, most_slips); __eq__(self, other)",
 }
 
 
@@ -79,10 +124,13 @@ class TestInterface(unittest.TestCase):
             self.assertIsInstance(vars(plate)[name], property)
         self.assertIsInstance(vars(plate)["from_rows"], staticmethod)
         self.assertEqual(str(inspect.signature(plate.from_rows)), "(rows, hiding=False, bound=(1, 1))")
-        self.assertIsInstance(vars(importlib.import_module("neverbare.jobs").Job)["field"], property)
+        for module, name, told_property in (("jobs", "Job", "field"), ("runs", "Run", "length"),
+                                            ("rectangles", "Rectangle", "sides")):
+            found = vars(importlib.import_module(f"neverbare.{module}"))[name]
+            self.assertIsInstance(vars(found)[told_property], property)
 
     def test_generators(self):
-        for module, name in (("slips", "all_whole_slips"), ("stands", "all_stands")):
+        for module, name in (("slips", "all_whole_slips"), ("stands", "all_stands"), ("leastjob", "alike_jobs")):
             self.assertTrue(inspect.isgeneratorfunction(
                 vars(importlib.import_module(f"neverbare.{module}"))[name]))
 
