@@ -72,7 +72,13 @@ class TestApartSamples(unittest.TestCase):
     def test_each_apart_at_once(self):
         draws = Draws(573)
         for job in drawn_jobs(574, 60, bounds=((0, 0), (1, 0), (0, 1), (2, 0))):
+            bounds = [[plate.bound[axis] for plate in job if plate.cells] for axis in (0, 1)]
+            many = 1 if bounds[0] == [] else len(all_apart(bounds[0])) * len(all_apart(bounds[1]))
+            if many > 400:
+                raises(self, TooMany, {"most": 400}, apart_samples, job)
+                continue
             samples = apart_samples(job)
+            self.assertEqual(len(samples), many)
             found = [apart_at(job, slips) for slips in samples]
             self.assertEqual(len(set(found)), len(found))
             self.assertEqual(found, sorted(found))

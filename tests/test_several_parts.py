@@ -1,0 +1,241 @@
+"""What the document says of several parts together."""
+
+import unittest
+
+from neverbare.areas import area_at, greatest_area, least_area
+from neverbare.exchange import may_exchange, may_switch, orders_alike
+from neverbare.jobs import Job
+from neverbare.jointly import BareAt, all_bare
+from neverbare.leastjob import alike_jobs, count_alike, greatest_job, least_job
+from neverbare.pieces import piece_at
+from neverbare.pictures import areas_of
+from neverbare.plates import Plate
+from neverbare.rectangles import greatest_rectangles, rectangle_for
+from neverbare.regions import Deep, bare_cells, never_bare
+from neverbare.runs import runs_at
+from neverbare.samples import apart_samples
+from neverbare.sheets import sheet_of, table_of
+from neverbare.spots import stands_of, table_at
+from neverbare.stands import corners_of
+from neverbare.sure import sure_stretches, surely_inked
+from neverbare.together import Together, always_together, hole_counts, piece_counts
+from neverbare.touching import may_touch, must_touch
+from neverbare.unseen import unseen_inks
+from neverbare.widest import widest_run
+from tests.helping import (
+    Draws, all_kinds, as_ratio, at_axis, drawn_case, drawn_jobs, drawn_slips, number, on_no_line,
+    plain_lines,
+)
+from tests.test_pieces import all_groups
+from tests.test_together import some_jobs
+
+
+def width_of(job, axis, window, band, kind):
+    run = widest_run(job, axis, window, band, kind)
+    return 0 if run is None else number(run.length)
+
+
+def ends_of(counts):
+    return counts.least, counts.most
+
+
+class TestJobsSeenOtherwise(unittest.TestCase):
+    def test_unseen_ink(self):
+        for job in drawn_jobs(701, 60, width=3, height=2):
+            found = unseen_inks(job)
+            self.assertEqual(unseen_inks(job.mirrored(0)), tuple(sorted((p, (2 - x, y)) for p, (x, y) in found)))
+            self.assertEqual(unseen_inks(job.mirrored(1)), tuple(sorted((p, (x, 1 - y)) for p, (x, y) in found)))
+            self.assertEqual(unseen_inks(job.turned()), tuple(sorted((p, (1 - y, x)) for p, (x, y) in found)))
+            self.assertEqual(unseen_inks(job.finer(2)), tuple(sorted(
+                (p, (2 * x + i, 2 * y + j)) for p, (x, y) in found for i in (0, 1) for j in (0, 1))))
+
+    def test_least_and_greatest_jobs(self):
+        for job in drawn_jobs(702, 60, width=3, height=2):
+            for call in (least_job, greatest_job):
+                for other, seen in ((job.mirrored(0), call(job).mirrored(0)), (job.mirrored(1), call(job).mirrored(1)),
+                                    (job.turned(), call(job).turned())):
+                    self.assertEqual(call(other), seen)
+            self.assertEqual(least_job(job.finer(2)), least_job(job).finer(2))
+
+    def test_exchanges_and_switches(self):
+        for job in drawn_jobs(703, 60, width=3, height=2):
+            others = (job.mirrored(0), job.mirrored(1), job.turned(), job.finer(2))
+            for other in others:
+                self.assertEqual(orders_alike(other), orders_alike(job))
+                for plate in range(len(job)):
+                    self.assertEqual(may_switch(other, plate) is None, may_switch(job, plate) is None)
+                for plate in range(len(job) - 1):
+                    self.assertEqual(may_exchange(other, plate) is None, may_exchange(job, plate) is None)
+
+
+class TestAlike(unittest.TestCase):
+    def test_jobs_that_look_alike_answer_alike(self):
+        draws = Draws(704)
+        for job in drawn_jobs(705, 60):
+            if count_alike(job) > 64:
+                continue
+            axis, window, band, kind = drawn_case(draws, job)
+            region = job.field[:4]
+            slips = drawn_slips(draws, job)
+            for other in list(alike_jobs(job))[:4]:
+                self.assertEqual(area_at(other, slips, region, kind), area_at(job, slips, region, kind))
+                self.assertEqual(greatest_area(other, region, kind), greatest_area(job, region, kind))
+                self.assertEqual(least_area(other, region, kind), least_area(job, region, kind))
+                self.assertEqual(width_of(other, axis, window, band, kind), width_of(job, axis, window, band, kind))
+                self.assertEqual(greatest_rectangles(other, window, band, kind),
+                                 greatest_rectangles(job, window, band, kind))
+                self.assertEqual(sure_stretches(other, axis, window, band, kind),
+                                 sure_stretches(job, axis, window, band, kind))
+                self.assertEqual(surely_inked(other, axis, window, band), surely_inked(job, axis, window, band))
+                self.assertEqual(isinstance(never_bare(other, region), Deep), isinstance(never_bare(job, region), Deep))
+                for across in plain_lines(slips, axis, band):
+                    self.assertEqual(runs_at(other, slips, axis, across, window, kind),
+                                     runs_at(job, slips, axis, across, window, kind))
+
+    def test_they_hang_together_alike(self):
+        draws = Draws(706)
+        for job in some_jobs(707, 60):
+            group = draws.one_of(all_groups(job))
+            least = least_job(job)
+            self.assertEqual(isinstance(always_together(least, group), Together),
+                             isinstance(always_together(job, group), Together))
+            for call in (piece_counts, hole_counts):
+                self.assertEqual(ends_of(call(least, group)), ends_of(call(job, group)))
+            if len(job) == 2:
+                self.assertEqual(may_touch(least, 0, 1) is None, may_touch(job, 0, 1) is None)
+                self.assertEqual(must_touch(least, 0, 1) is None, must_touch(job, 0, 1) is None)
+
+    def test_plates_that_may_be_exchanged(self):
+        met = 0
+        for job in some_jobs(708, 150):
+            for plate in range(len(job) - 1):
+                if may_exchange(job, plate) is None:
+                    met += 1
+                    other = job.exchanged(plate)
+                    renamed = {plate: plate + 1, plate + 1: plate}
+                    for group in all_groups(job):
+                        new = tuple(sorted(renamed.get(one, one) for one in group))
+                        for call in (piece_counts, hole_counts):
+                            self.assertEqual(ends_of(call(other, new)), ends_of(call(job, group)))
+        self.assertGreater(met, 10)
+
+
+class TestStands(unittest.TestCase):
+    def test_tables_and_areas_hang_on_the_stands(self):
+        draws = Draws(709)
+        for job in drawn_jobs(710, 60):
+            slips = drawn_slips(draws, job)
+            self.assertEqual(table_at(job, stands_of(job, slips)), table_of(job, slips))
+            whole = [(x, y) for x in range(-2, job.width + 2) for y in range(-2, job.height + 2)][:48]
+            areas = dict(areas_of(sheet_of(job, slips)))
+            if len(whole) == (job.width + 4) * (job.height + 4):
+                for kind in [("alone", plate) for plate in range(len(job))]:
+                    self.assertEqual(area_at(job, slips, whole, kind), areas.get((kind[1],), (0, 1)))
+
+    def test_a_topmost_plate_shows_its_area_at_all_slips(self):
+        draws = Draws(711)
+        for job in drawn_jobs(712, 40, width=3, height=2):
+            region = [(x, y) for x in range(-1, 4) for y in range(-1, 3)]
+            top = len(job) - 1
+            slips = drawn_slips(draws, job)
+            self.assertEqual(area_at(job, slips, region, ("shows", top)), (len(job.plates[top]), 1))
+            self.assertEqual(greatest_area(job, region, ("shows", top)).size, len(job.plates[top]))
+            self.assertEqual(least_area(job, region, ("shows", top)).size, len(job.plates[top]))
+
+    def test_corners_are_within_the_bounds(self):
+        draws = Draws(713)
+        for job in drawn_jobs(714, 30, bounds=((2, 1), (1, 2), (1, 1))):
+            for axis, stand in enumerate(stands_of(job, drawn_slips(draws, job))):
+                for corner in corners_of(stand):
+                    self.assertTrue(all(abs(step) <= plate.bound[axis] for step, plate in zip(corner, job)))
+
+
+class TestBareRunsAndRegions(unittest.TestCase):
+    def test_bare_rectangles_are_regions_bare_at_once(self):
+        draws = Draws(715)
+        for job in drawn_jobs(716, 80):
+            axis, window, band, _ = drawn_case(draws, job)
+            if axis == 1:
+                window, band = band, window
+            cells = [(x, y) for x in range(*window) for y in range(*band)]
+            sides = [as_ratio(high - low) for low, high in (window, band)]
+            found = rectangle_for(job, window, band, "bare", sides[0], sides[1])
+            self.assertEqual(found is not None, isinstance(all_bare(job, cells), BareAt))
+
+    def test_bare_runs(self):
+        draws = Draws(717)
+        for job in drawn_jobs(718, 80):
+            axis, window, band, _ = drawn_case(draws, job)
+            rows = [[at_axis(axis, step, row) for step in range(*window)] for row in range(*band)]
+            longest = any(isinstance(all_bare(job, row), BareAt) for row in rows)
+            self.assertEqual(surely_inked(job, axis, window, band), not longest)
+            self.assertEqual(width_of(job, axis, window, band, "bare") == window[1] - window[0], longest)
+            cells = [cell for row in rows for cell in row]
+            self.assertEqual(width_of(job, axis, window, band, "bare") > 0, bare_cells(job, cells) != ())
+            self.assertEqual(greatest_rectangles(job, *((window, band) if axis == 0 else (band, window)), "bare") != (),
+                             bare_cells(job, cells) != ())
+
+    def test_more_ink_a_greater_bound_and_finer_cells(self):
+        draws = Draws(719)
+        for job in drawn_jobs(720, 60, width=3, height=2):
+            axis = draws.below(2)
+            window, band = ((0, 3), (0, 2)) if axis == 0 else ((0, 2), (0, 3))
+            for kind in all_kinds(job):
+                width = width_of(job, axis, window, band, kind)
+                for plate in range(len(job)):
+                    self.assertGreaterEqual(width_of(job.with_bound(plate, (1, 1)), axis,
+                                                     window, band, kind), width)
+                doubled = [tuple(2 * end for end in ends) for ends in (window, band)]
+                self.assertEqual(width_of(job.finer(2), axis, *doubled, kind), 2 * width)
+            free = [(plate, cell) for plate in range(len(job)) for cell in job.field
+                    if cell not in job.plates[plate].cells]
+            if free:
+                more = job.with_ink(*draws.one_of(free))
+                self.assertLessEqual(width_of(more, axis, window, band, "bare"),
+                                     width_of(job, axis, window, band, "bare"))
+
+
+class TestOnePiece(unittest.TestCase):
+    def test_a_never_bare_region_lies_in_one_piece_at_all_samples(self):
+        met = 0
+        for job in some_jobs(721, 120):
+            group = tuple(range(len(job)))
+            deep = [cell for cell in job.field if not bare_cells(job, [cell])]
+            for x, y in deep:
+                for near in ((x + 1, y), (x, y + 1)):
+                    if near in deep:
+                        met += 1
+                        for slips in apart_samples(job)[::3]:
+                            places = [(as_ratio(number((20 * i + 1, 20))), as_ratio(number((20 * j + 1, 20))))
+                                      for i, j in ((x, y), near)]
+                            if all(on_no_line(job, slips, place) for place in places):
+                                pieces = [piece_at(job, slips, group, place) for place in places]
+                                self.assertIsNotNone(pieces[0])
+                                self.assertEqual(pieces[0], pieces[1])
+        self.assertGreater(met, 20)
+
+    def test_sure_stretches_lie_in_one_piece(self):
+        draws = Draws(722)
+        met = 0
+        for job in drawn_jobs(723, 150, width=4, height=2):
+            slips = drawn_slips(draws, job)
+            for plate in range(len(job)):
+                for low, high in sure_stretches(job, 0, (-1, 5), (0, 1), ("shows", plate)):
+                    places = [(as_ratio(low + number((1, 97))), (11, 23)), (as_ratio(high - number((1, 97))), (11, 23))]
+                    if all(on_no_line(job, slips, place) for place in places):
+                        met += 1
+                        pieces = [piece_at(job, slips, (plate,), place) for place in places]
+                        self.assertIsNotNone(pieces[0])
+                        self.assertEqual(pieces[0], pieces[1])
+        self.assertGreater(met, 20)
+
+    def test_a_job_of_one_whole_plate_hangs_together(self):
+        draws = Draws(724)
+        for _ in range(5):
+            bound = (draws.below(3), draws.below(3))
+            job = Job(4, 3, [Plate(Job(4, 3, [Plate([])]).field, draws.below(2) == 0, bound)])
+            self.assertEqual(always_together(job, (0,)), Together(1))
+
+
+if __name__ == "__main__":
+    unittest.main()
