@@ -1,13 +1,12 @@
 """Areas of kinds in regions: at told slips, and the least and greatest over all slips."""
 
 from neverbare.errors import BadArea
-from neverbare.kinds import check_kind, is_of_kind
-from neverbare.places import codes_of_cells, is_on_at
+from neverbare.kinds import check_kind
+from neverbare.places import codes_of_cells, is_on_at, kinds_by_code
 from neverbare.ratios import (
     compare, is_ratio, is_whole, make_ratio, minus, over, plus, sum_of, times,
 )
 from neverbare.regions import are_whole_slips, check_region
-from neverbare.shows import showings_by_code
 from neverbare.slips import check_slips
 from neverbare.spots import corner_slips, stands_of
 from neverbare.stands import row_of, shares_of
@@ -24,11 +23,6 @@ class Extent:
         return isinstance(other, Extent) and self.size == other.size and self.slips == other.slips
 
 
-def _kind_by_code(job, kind):
-    """For each choice of plates that are on 1 if it shows the kind, else 0."""
-    return [1 if is_of_kind(showing, kind) else 0 for showing in showings_by_code(job)]
-
-
 def _code_at(job, slips, cell):
     """The code of the plates that are on over the middle of a sheet cell at whole slips."""
     code = 0
@@ -40,8 +34,8 @@ def _code_at(job, slips, cell):
 
 def _size_at(job, slips, cells, kind):
     """The number of the cells that show the kind at whole slips."""
-    counts = _kind_by_code(job, kind)
-    return sum([counts[_code_at(job, slips, cell)] for cell in cells])
+    wanted = kinds_by_code(job, kind)
+    return len([cell for cell in cells if wanted[_code_at(job, slips, cell)]])
 
 
 def whole_parts(job, slips, region, kind):
@@ -66,11 +60,11 @@ def area_at(job, slips, region, kind):
 
 def _extents(job, cells, kind):
     """The least and the greatest area, each with the least whole slips that have it."""
-    counts = _kind_by_code(job, kind)
+    wanted = kinds_by_code(job, kind)
     least = None
     most = None
     for codes, slips in codes_of_cells(job, cells):
-        size = sum([counts[code] for code in codes])
+        size = len([code for code in codes if wanted[code]])
         if least is None or size < least.size:
             least = Extent(size, slips)
         if most is None or size > most.size:

@@ -97,6 +97,11 @@ def sheet_cells_about(job):
     return [(x, y) for x in range(-2, job.width + 2) for y in range(-2, job.height + 2)]
 
 
+def kinds_by_code(job, kind):
+    """For each choice of plates that are on whether its showing is of the kind."""
+    return [is_of_kind(showing, kind) for showing in showings_by_code(job)]
+
+
 def showings_at(job, cell):
     """Couples (showing, least whole slips) for all that the sheet cell can show."""
     told = check_sheet_cell(cell)

@@ -2,10 +2,9 @@
 
 from neverbare.errors import BadRectangle, BadSize
 from neverbare.kinds import check_kind
+from neverbare.places import kinds_by_code
 from neverbare.ratios import ZERO, compare, floor_of, is_ratio, make_ratio, minus, negative
-from neverbare.runs import (
-    check_window, free_lines, is_within, kinds_by_code, ratio_ends, runs_between,
-)
+from neverbare.runs import check_window, free_lines, is_within, ratio_ends, runs_between
 from neverbare.slips import are_slips, is_couple, whole_slips_of
 from neverbare.spots import whole_stretch
 from neverbare.stands import row_of

@@ -4,12 +4,13 @@ from math import lcm
 
 from neverbare.cells import check_axis
 from neverbare.errors import BadAcross, BadWindow, OnLine
-from neverbare.kinds import check_kind, is_of_kind
+from neverbare.kinds import check_kind
+from neverbare.places import kinds_by_code
 from neverbare.ratios import (
     ascending_ratios, compare, floor_of, is_ratio, is_sequence, is_whole, make_ratio,
     middle_of_two, minus, plus,
 )
-from neverbare.shows import line_through, showings_by_code
+from neverbare.shows import line_through
 from neverbare.slips import are_slips, check_slips
 from neverbare.stands import row_of
 
@@ -46,11 +47,6 @@ def check_window(window, what="window"):
 def ratio_ends(window):
     """The two ends of a window or band as ratios."""
     return (make_ratio(window[0]), make_ratio(window[1]))
-
-
-def kinds_by_code(job, kind):
-    """For each choice of plates that are on whether its showing is of the kind."""
-    return [is_of_kind(showing, kind) for showing in showings_by_code(job)]
 
 
 def _steps_on(job, slips, axis, across):

@@ -3,11 +3,9 @@
 from neverbare.cells import check_axis
 from neverbare.errors import TooMany
 from neverbare.kinds import check_kind
-from neverbare.places import codes_of_cells
+from neverbare.places import codes_of_cells, kinds_by_code
 from neverbare.ratios import ZERO, compare, greatest_of, is_ratio, make_ratio, minus
-from neverbare.runs import (
-    check_window, is_free_line, joined_spans, kinds_by_code, ratio_ends, runs_between,
-)
+from neverbare.runs import check_window, is_free_line, joined_spans, ratio_ends, runs_between
 from neverbare.slips import are_slips
 from neverbare.widest import (
     choices_of, is_inside, longest_of, marks_of_kind, moved_marks, rows_in_band, slips_along,

@@ -2,9 +2,10 @@
 
 from neverbare.cells import check_axis
 from neverbare.kinds import check_kind
+from neverbare.places import kinds_by_code
 from neverbare.ratios import compare, make_ratio
 from neverbare.regions import are_whole_slips
-from neverbare.runs import Run, check_window, kinds_by_code, ratio_ends, run_fault
+from neverbare.runs import Run, check_window, ratio_ends, run_fault
 
 
 def marks_of_kind(wanted, marks, full):
