@@ -11,7 +11,7 @@ from neverbare.unlike import Unlike, check_order, shown_by, shown_in_order, sigh
 
 
 def _choices_that_come(job):
-    """Triples (code, sheet cell, whole slips) for each choice of plates that are ever on alone."""
+    """Triples (code, sheet cell, whole slips) for each choice of plates that is ever on at once."""
     found = {}
     for cell in sheet_cells_about(job):
         for codes, slips in codes_of_cells(job, (cell,)):
@@ -39,6 +39,7 @@ def _showings_in_order(job, order):
 
 
 def _own_order(job):
+    """The order in which the job itself is printed."""
     return tuple(list(range(len(job.plates))))
 
 
