@@ -1,7 +1,7 @@
 """Lots of ink, and what a plate needs for a sheet cell to be deep in it."""
 
 from neverbare.cells import is_cell, near_cells
-from neverbare.errors import BadCell, BadChoice, BadLot
+from neverbare.errors import BadCell, BadChoice, BadLot, StillBare
 from neverbare.jobs import check_plate, with_all_cells
 from neverbare.ratios import is_sequence, is_whole
 from neverbare.regions import bare_cells, check_region
@@ -17,9 +17,9 @@ def _is_ink(job, thing):
     return 0 <= x < job.width and 0 <= y < job.height
 
 
-def _has_ink(job, ink):
+def has_ink(job, plate, cell):
     """Whether the job has an ink."""
-    return ink[1] in job.plates[ink[0]].cells
+    return cell in job.plates[plate].cells
 
 
 def _checked_lot(job, lot, word, inked):
@@ -33,7 +33,7 @@ def _checked_lot(job, lot, word, inked):
         ink = (thing[0], tuple(thing[1]))
         if index > 0 and ink <= found[-1]:
             raise BadLot(index, "order")
-        if word is not None and _has_ink(job, ink) == inked:
+        if word is not None and has_ink(job, ink[0], ink[1]) == inked:
             raise BadLot(index, word)
         found.append(ink)
     return tuple(found)
@@ -68,13 +68,62 @@ def ink_of(job):
     ])
 
 
-def _lacking(job, plate, cell):
-    """What a plate lacks for a sheet cell, or None if its need cannot be met."""
+def marks_of(lot):
+    """The inks of a lot as bits: the greater an ink, the greater its bit."""
+    return sum([1 << (64 * plate + 8 * x + y) for plate, (x, y) in lot])
+
+
+def lot_of(marks):
+    """The lot of the inks that these bits tell."""
+    numbers = [bit for bit in range(marks.bit_length()) if (marks >> bit) & 1 == 1]
+    return tuple([(bit // 64, (bit // 8 % 8, bit % 8)) for bit in numbers])
+
+
+def lots_in_order(rows):
+    """The unlike lots that rows of bits tell: those with fewer inks first, then ascending."""
+    lots = [lot_of(marks) for marks in sorted(set(rows))]
+    return sorted(lots, key=lambda lot: (len(lot), lot))
+
+
+def fewest_of(lots):
+    """Those with the fewest inks of lots in order, ascending."""
+    return tuple([lot for lot in lots if len(lot) == len(lots[0])])
+
+
+def _need(job, plate, cell):
+    """The need of a plate for a sheet cell, or None if it cannot be met."""
     need = near_cells(cell, job.plates[plate].bound)
     field = job.field
-    if not all([one in field for one in need]):
+    return need if all([one in field for one in need]) else None
+
+
+def needs_of(job, cell):
+    """The needs for a sheet cell that can be met, as bits, in the order of the plates."""
+    needs = [(plate, _need(job, plate, cell)) for plate in range(len(job.plates))]
+    return [
+        marks_of([(plate, one) for one in need]) for plate, need in needs if need is not None
+    ]
+
+
+def deep_needs(job, cells):
+    """For each sheet cell the needs of the plates in which it is deep, as bits."""
+    ink = marks_of(ink_of(job))
+    return [[need for need in needs_of(job, cell) if need & ~ink == 0] for cell in cells]
+
+
+def check_deep(job, cells):
+    """Refuses cells of which one can be bare."""
+    bare = bare_cells(job, cells)
+    if len(bare) > 0:
+        raise StillBare(bare[0])
+
+
+def _lacking(job, plate, cell):
+    """What a plate lacks for a sheet cell, or None if its need cannot be met."""
+    need = _need(job, plate, cell)
+    if need is None:
         return None
-    return tuple([one for one in need if one not in job.plates[plate].cells])
+    return tuple([one for one in need if not has_ink(job, plate, one)])
 
 
 def lacking_cells(job, plate, cell):

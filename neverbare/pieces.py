@@ -1,7 +1,7 @@
 """Pieces and holes of a group of plates at told slips."""
 
 from neverbare.errors import BadGroup
-from neverbare.ratios import is_sequence, is_whole
+from neverbare.ratios import is_ascending
 from neverbare.sheets import rectangle_at, sheet_of
 from neverbare.shows import on_plates
 from neverbare.slips import check_place, check_slips
@@ -9,13 +9,8 @@ from neverbare.slips import check_place, check_slips
 
 def check_group(job, group):
     """The group of plates as a tuple."""
-    if not is_sequence(group, 1):
+    if not is_ascending(group, len(job.plates)) or len(group) == 0:
         raise BadGroup()
-    lowest = 0
-    for plate in group:
-        if not is_whole(plate, lowest, len(job.plates) - 1):
-            raise BadGroup()
-        lowest = plate + 1
     return tuple(group)
 
 

@@ -63,33 +63,42 @@ def _sums(one, other):
     return tuple([a + b for a, b in zip(one, other)])
 
 
-def codes_of_cells(job, cells):
-    """Couples (codes, least whole slips), each codes once, in the order of the slips.
+def codes_of_layers(layers, many):
+    """Couples (codes, slips) for all choices of one couple (marks, slip) of each plate's layer.
 
-    The codes tell for each of the cells which plates are on over its middle: bit p for plate p.
+    The codes tell for each of so many places which plates are on there: bit p for plate p, if the
+    marks of plate p are 0 or this bit.
     """
-    rows = [(tuple([0 for _ in cells]), ())]
-    weight = 1
-    for plate in job.plates:
-        layer = _marks_of(plate, cells, weight)
+    rows = [(tuple([0 for _ in range(many)]), ())]
+    for layer in layers:
         rows = [
             (_sums(codes, marks), (*slips, slip))
             for codes, slips in rows for marks, slip in layer
         ]
-        weight = weight + weight
     return rows
 
 
-def pictures_of_cells(job, cells):
-    """Couples (picture, least whole slips) of the cells' middles, ascending by picture."""
+def codes_of_cells(job, cells):
+    """Couples (codes of the cells' middles, least whole slips), in the order of the slips."""
+    layers = [_marks_of(plate, cells, 1 << number) for number, plate in enumerate(job.plates)]
+    return codes_of_layers(layers, len(cells))
+
+
+def pictures_of_codes(job, rows):
+    """Couples (picture, its first slips) of couples (codes, slips), ascending by picture."""
     showings = showings_by_code(job)
     found = {}
-    # The rows are in the order of their slips, so the first one of a picture has its least slips.
-    for codes, slips in codes_of_cells(job, cells):
+    for codes, slips in rows:
         picture = tuple([showings[code] for code in codes])
         if picture not in found:
             found[picture] = slips
     return tuple([(picture, found[picture]) for picture in sorted(list(found))])
+
+
+def pictures_of_cells(job, cells):
+    """Couples (picture, least whole slips) of the cells' middles, ascending by picture."""
+    # The codes are in the order of their slips, so the first ones of a picture are its least.
+    return pictures_of_codes(job, codes_of_cells(job, cells))
 
 
 def sheet_cells_about(job):

@@ -23,9 +23,27 @@ def is_sequence(thing, low=0, high=None):
     return isinstance(thing, (list, tuple)) and is_whole(len(thing), low, high)
 
 
+def is_ascending(thing, many):
+    """Whether a thing of any kind is an ascending sequence of unlike numbers from 0 below many."""
+    if not is_sequence(thing) or not all([is_whole(part, 0, many - 1) for part in thing]):
+        return False
+    return all([thing[k] < thing[k + 1] for k in range(len(thing) - 1)])
+
+
+def number_choices(many, size):
+    """All ascending tuples of so many unlike numbers from 0 that are below many, ascending."""
+    rows = [()]
+    for _ in range(size):
+        rows = [
+            (*row, number)
+            for row in rows for number in range(many) if len(row) == 0 or number > row[-1]
+        ]
+    return rows
+
+
 def number_pairs(many):
     """All couples of numbers from 0 that are below many, the lesser one first, ascending."""
-    return [(low, high) for low in range(many) for high in range(low + 1, many)]
+    return number_choices(many, 2)
 
 
 def is_ratio(thing):

@@ -2,7 +2,8 @@
 
 from neverbare.errors import BadSheet, OnCut
 from neverbare.ratios import (
-    ascending_ratios, compare, floor_of, is_ratio, is_sequence, is_whole, make_ratio, minus, plus,
+    ascending_ratios, compare, floor_of, is_ascending, is_ratio, is_sequence, make_ratio, minus,
+    plus,
 )
 from neverbare.shows import showings_by_code
 from neverbare.slips import check_place, check_slips
@@ -17,20 +18,13 @@ def _are_lines(lines):
     return all([compare(lines[k], lines[k + 1]) < 0 for k in range(len(lines) - 1)])
 
 
-def _is_showing(thing):
-    """Whether a thing is an ascending sequence of numbers 0, 1 or 2, none twice."""
-    if not is_sequence(thing) or not all([is_whole(plate, 0, 2) for plate in thing]):
-        return False
-    return all([thing[k] < thing[k + 1] for k in range(len(thing) - 1)])
-
-
 def _are_rows(rows, wide, high):
     """Whether a thing is a sequence of so many sequences of so many showings."""
     if not is_sequence(rows, high, high):
         return False
     if not all([is_sequence(row, wide, wide) for row in rows]):
         return False
-    return all([_is_showing(showing) for row in rows for showing in row])
+    return all([is_ascending(showing, 3) for row in rows for showing in row])
 
 
 class Sheet:

@@ -2,7 +2,7 @@
 
 from neverbare.errors import BadOn, OnLine
 from neverbare.jobs import check_plate
-from neverbare.ratios import floor_of, is_sequence, is_whole, minus
+from neverbare.ratios import floor_of, is_ascending, minus
 from neverbare.slips import check_place, check_slips
 
 
@@ -31,6 +31,11 @@ def _cell_over(slip, place):
     return (floor_of(minus(place[0], slip[0])), floor_of(minus(place[1], slip[1])))
 
 
+def is_on(plate, slip, place):
+    """Whether a plate with this slip is on at a place on no line of it."""
+    return _cell_over(slip, place) in plate.cells
+
+
 def plate_cell(job, slips, plate, place):
     """The cell of the plate that lies over the place."""
     told = check_slips(job, slips)
@@ -47,8 +52,7 @@ def on_plates(job, slips, place):
     spot = check_place(place)
     _check_lines(told, spot)
     return tuple([
-        number for number, plate in enumerate(job.plates)
-        if _cell_over(told[number], spot) in plate.cells
+        number for number, plate in enumerate(job.plates) if is_on(plate, told[number], spot)
     ])
 
 
@@ -63,13 +67,8 @@ def _top_down(job, on):
 
 def showing_of(job, on):
     """The showing of the plates that are on."""
-    if not is_sequence(on):
+    if not is_ascending(on, len(job.plates)):
         raise BadOn()
-    lowest = 0
-    for plate in on:
-        if not is_whole(plate, lowest, len(job.plates) - 1):
-            raise BadOn()
-        lowest = plate + 1
     return _top_down(job, on)
 
 

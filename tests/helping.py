@@ -2,7 +2,7 @@
 
 import copy
 from fractions import Fraction
-from itertools import product
+from itertools import combinations, product
 
 from neverbare.errors import BadRegion
 from neverbare.jobs import Job
@@ -291,3 +291,109 @@ def drawn_case(draws, job):
     sizes = (job.width, job.height)
     return (axis, drawn_window(draws, sizes[axis]), drawn_window(draws, sizes[1 - axis], 1),
             draws.one_of(all_kinds(job)))
+
+
+# The job of the example [8.10], and its region.
+SIX = Job(6, 1, [Plate([(0, 0), (1, 0), (2, 0)], False, (1, 0)), Plate([(3, 0), (4, 0), (5, 0)], False, (1, 0))])
+REGION = [(1, 0), (2, 0), (3, 0), (4, 0)]
+BAD_FEW_REGIONS = [([(x, 0) for x in range(7)], {"most": 6}), ([(x, 0) for x in range(-20, 20)], {"most": 6})]
+
+
+def all_lots(inks, most=None):
+    """All lots made of some of the inks: the small ones first, those of one size ascending."""
+    inks = sorted(inks)
+    for size in range(len(inks) + 1 if most is None else most + 1):
+        yield from combinations(inks, size)
+
+
+def free_ink(job):
+    """The inks that the job does not have, ascending."""
+    return [(number, cell) for number, plate in enumerate(job.plates) for cell in job.field if cell not in plate.cells]
+
+
+def all_ink(job):
+    return [(number, cell) for number, plate in enumerate(job.plates) for cell in plate.cells]
+
+
+def inked_job(job, inks):
+    """The job with this ink alone, made without the package's lots."""
+    return Job(job.width, job.height, [
+        Plate([cell for number, cell in inks if number == own], plate.hiding, plate.bound)
+        for own, plate in enumerate(job.plates)])
+
+
+def more_ink(job, lot):
+    return inked_job(job, [*all_ink(job), *lot])
+
+
+def less_ink(job, lot):
+    return inked_job(job, [ink for ink in all_ink(job) if ink not in lot])
+
+
+def plain_deep(plate, cell):
+    """Whether a plate is on over a cell at all its whole slips."""
+    across, along = plate.bound
+    return all((cell[0] - u, cell[1] - v) in plate.cells
+               for u in range(-across, across + 1) for v in range(-along, along + 1))
+
+
+def plain_never_bare(job, region):
+    """Whether no whole slips bare a cell: each plate slips of its own, so one must never be off."""
+    return all(any(plain_deep(plate, cell) for plate in job.plates) for cell in region)
+
+
+def seen_otherwise(job):
+    """Couples of the mirrored and turned jobs and the function that leads the cells along."""
+    return [
+        (job.mirrored(0), lambda cell: (job.width - 1 - cell[0], cell[1])),
+        (job.mirrored(1), lambda cell: (cell[0], job.height - 1 - cell[1])),
+        (job.turned(), lambda cell: (job.height - 1 - cell[1], cell[0])),
+    ]
+
+
+def led_lot(lot, lead):
+    return tuple(sorted((plate, lead(cell)) for plate, cell in lot))
+
+
+def led_lots(lots, lead):
+    return sorted(led_lot(lot, lead) for lot in lots)
+
+
+def finer_cells(cells, size):
+    return [(size * x + i, size * y + j) for x, y in cells for i in range(size) for j in range(size)]
+
+
+def place_in(draws, cell, bottoms=(2, 3, 5, 7, 11)):
+    """A place within a sheet cell, on none of its rims."""
+    def along(low):
+        bottom = draws.one_of(bottoms)
+        return as_ratio(low + Fraction(1 + draws.below(bottom - 1), bottom))
+    return along(cell[0]), along(cell[1])
+
+
+def shows_something(case, draws, job, region, many=6):
+    """No place of the region is bare at drawn slips, whole or not."""
+    for _ in range(many):
+        slips = drawn_slips(draws, job)
+        for cell in region:
+            place = place_in(draws, cell)
+            if on_no_line(job, slips, place):
+                case.assertNotEqual(plain_showing(job, slips, place), ())
+
+
+def dense_jobs(seed, many, width=3, height=2, bounds=((0, 0), (1, 0), (0, 1), (1, 1))):
+    """Jobs with much ink."""
+    draws = Draws(seed)
+    return [Job(width, height, [drawn_plate(draws, width, height, bounds, draws.one_of((2, 3, 4)))
+                                for _ in range(1 + draws.below(3))]) for _ in range(many)]
+
+
+def deep_regions(seed, many, most=3, **more):
+    """Jobs with regions that are never bare."""
+    draws = Draws(seed)
+    found = []
+    for job in dense_jobs(seed + 1, many, **more):
+        deep = [cell for cell in job.field if plain_never_bare(job, [cell])]
+        if deep:
+            found.append((job, [draws.one_of(deep) for _ in range(1 + draws.below(most))]))
+    return found

@@ -68,6 +68,16 @@ INTERFACE = {
     "touching": "touch_at(job, slips, one, other); may_touch(job, one, other); must_touch(job, one, other)",
     "needs": """check_lot(job, lot); ink_of(job); with_lot(job, lot); without_lot(job, lot);
         lacking_cells(job, plate, cell); ink_for(job, region, choice); helping_ink(job, region)""",
+    "losing": "bearable_losses(job, region); breaking_lot(job, region)",
+    "adding": """all_added(job, region, *, losses=0); least_added(job, region, *, losses=0);
+        added_fault(job, region, lot, *, losses=0)""",
+    "covering": "most_covered(job, region, many)",
+    "needless": "needed_ink(job, region); needless_ink(job, region); strip_job(job, region)",
+    "keeping": "all_kept(job, region); least_kept(job, region)",
+    "bars": "read_bar(job, bar); bar_holds(job, bar); check_bars(job, bars)",
+    "barred": "least_barred(job, region, bars, candidates=None)",
+    "looks": "told_by(job, showing); check_looks(job, looks)",
+    "rooms": "does_fit(job, looks, slips); rooms_for(job, looks); find_slips(job, looks)",
 }
 
 CLASSES = {
@@ -94,6 +104,8 @@ CLASSES = {
     ("together", "Together"): "__init__(self, samples); __eq__(self, other)",
     ("together", "Parted"): "__init__(self, slips, place, other); __eq__(self, other)",
     ("together", "Counts"): "__init__(self, least, least_slips, most, most_slips); __eq__(self, other)",
+    ("covering", "Covering"): "__init__(self, covered, lots); __eq__(self, other)",
+    ("rooms", "Rooms"): "__init__(self, rows)",
 }
 
 
@@ -130,7 +142,8 @@ class TestInterface(unittest.TestCase):
             self.assertIsInstance(vars(found)[told_property], property)
 
     def test_generators(self):
-        for module, name in (("slips", "all_whole_slips"), ("stands", "all_stands"), ("leastjob", "alike_jobs")):
+        for module, name in (("slips", "all_whole_slips"), ("stands", "all_stands"), ("leastjob", "alike_jobs"),
+                             ("adding", "all_added"), ("keeping", "all_kept")):
             self.assertTrue(inspect.isgeneratorfunction(
                 vars(importlib.import_module(f"neverbare.{module}"))[name]))
 

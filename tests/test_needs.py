@@ -6,13 +6,10 @@ from neverbare.needs import check_lot, helping_ink, ink_for, ink_of, lacking_cel
 from neverbare.plates import Plate
 from neverbare.regions import Deep, bare_cells, check_region, never_bare
 from tests.helping import (
-    BAD_PLATES, BAD_REGIONS, EXAMPLE, ODD_THINGS, Draws, all_tuples, cells_about, drawn_jobs, drawn_region, leaves_alone,
-    raises, refuses,
+    BAD_PLATES, BAD_REGIONS, EXAMPLE, ODD_THINGS, REGION, SIX, Draws, all_tuples, cells_about, drawn_jobs, drawn_region,
+    leaves_alone, raises, refuses,
 )
 
-# The job of [8.10].
-SIX = Job(6, 1, [Plate([(0, 0), (1, 0), (2, 0)], False, (1, 0)), Plate([(3, 0), (4, 0), (5, 0)], False, (1, 0))])
-REGION = [(x, 0) for x in (1, 2, 3, 4)]
 BAD_INKS = ((), (0,), (0, (0, 0), 0), (2, (0, 0)), (-1, (0, 0)), (True, (0, 0)), (0, (7, 0)), (0, (0, 1)),
             (0, (-1, 0)), (0, (0, -1)),
             (0, (0, False)), (0, 0), (0, (0,)), {0: 1, 1: 2}, *ODD_THINGS)

@@ -2,13 +2,22 @@
 
 import unittest
 
+from neverbare.adding import least_added
 from neverbare.areas import area_at, greatest_area, least_area
+from neverbare.bars import bar_holds
+from neverbare.covering import most_covered
 from neverbare.exchange import may_exchange, may_switch, orders_alike
 from neverbare.jobs import Job
 from neverbare.jointly import BareAt, all_bare
+from neverbare.keeping import all_kept
 from neverbare.leastjob import alike_jobs, count_alike, greatest_job, least_job
+from neverbare.losing import bearable_losses
+from neverbare.mixing import Unmixed, never_mixed
+from neverbare.needless import needed_ink, strip_job
+from neverbare.needs import ink_of, with_lot
 from neverbare.pieces import piece_at
 from neverbare.pictures import areas_of
+from neverbare.places import showings_at
 from neverbare.plates import Plate
 from neverbare.rectangles import greatest_rectangles, rectangle_for
 from neverbare.regions import Deep, bare_cells, never_bare
@@ -23,8 +32,8 @@ from neverbare.touching import may_touch, must_touch
 from neverbare.unseen import unseen_inks
 from neverbare.widest import widest_run
 from tests.helping import (
-    Draws, all_kinds, as_ratio, at_axis, drawn_case, drawn_jobs, drawn_slips, number, on_no_line,
-    plain_lines,
+    Draws, all_kinds, as_ratio, at_axis, cells_about, drawn_case, drawn_jobs, drawn_slips, number, on_no_line,
+    plain_lines, seen_otherwise,
 )
 from tests.test_pieces import all_groups
 from tests.test_together import some_jobs
@@ -148,6 +157,70 @@ class TestStands(unittest.TestCase):
             for axis, stand in enumerate(stands_of(job, drawn_slips(draws, job))):
                 for corner in corners_of(stand):
                     self.assertTrue(all(abs(step) <= plate.bound[axis] for step, plate in zip(corner, job)))
+
+
+class TestBars(unittest.TestCase):
+    def test_bars_rest_on_the_parts_before(self):
+        draws = Draws(725)
+        for job in drawn_jobs(726, 80):
+            axis, window, band, kind = drawn_case(draws, job)
+            width = width_of(job, axis, window, band, kind)
+            for most in range(3):
+                self.assertEqual(bar_holds(job, ("widest", axis, window, band, kind, most)), width <= most)
+            cell = draws.one_of(cells_about(job))
+            shown = [showing for showing, _ in showings_at(job, cell)]
+            for showing in ((), (0,), (len(job) - 1,), tuple(range(len(job)))):
+                self.assertEqual(bar_holds(job, ("shows", cell, showing)), showing in shown)
+            region = [draws.one_of(cells_about(job)) for _ in range(3)]
+            self.assertEqual(bar_holds(job, ("never mixed", region)), isinstance(never_mixed(job, region), Unmixed))
+            unseen = unseen_inks(job)
+            for plate, own in enumerate(job):
+                for cell in job.field:
+                    seen = cell in own and (plate, cell) not in unseen
+                    self.assertEqual(bar_holds(job, ("seen", plate, cell)), seen)
+                    self.assertEqual(bar_holds(job, ("unseen", plate, cell)), not seen)
+
+    def test_bars_are_led_along(self):
+        draws = Draws(727)
+        for job in drawn_jobs(728, 60, width=3, height=3):
+            axis, _, _, kind = drawn_case(draws, job)
+            plate, cell, region = draws.below(len(job)), draws.one_of(job.field), [draws.one_of(job.field)]
+            most = draws.below(3)
+            for other, lead in seen_otherwise(job):
+                turned = 1 - axis if lead((1, 0)) in ((0, 1), (2, 1)) else axis
+                for bar, led in (
+                        (("widest", axis, (0, 3), (0, 3), kind, most), ("widest", turned, (0, 3), (0, 3), kind, most)),
+                        (("shows", cell, (plate,)), ("shows", lead(cell), (plate,))),
+                        (("seen", plate, cell), ("seen", plate, lead(cell))),
+                        (("unseen", plate, cell), ("unseen", plate, lead(cell))),
+                        (("never mixed", region), ("never mixed", [lead(one) for one in region]))):
+                    self.assertEqual(bar_holds(other, led), bar_holds(job, bar), bar)
+
+    def test_areas_are_led_along(self):
+        draws = Draws(729)
+        for job in drawn_jobs(730, 40, width=3, height=2):
+            region = [draws.one_of(cells_about(job)) for _ in range(3)]
+            for kind in all_kinds(job):
+                for call in (greatest_area, least_area):
+                    size = call(job, region, kind).size
+                    for other, lead in seen_otherwise(job):
+                        self.assertEqual(call(other, [lead(cell) for cell in region], kind).size, size)
+
+    def test_a_region_is_never_bare_exactly_if_nothing_need_be_added(self):
+        draws = Draws(731)
+        for job in drawn_jobs(732, 80, width=3, height=2):
+            region = [draws.one_of(job.field) for _ in range(draws.below(4))]
+            never = isinstance(never_bare(job, region), Deep)
+            self.assertEqual(least_added(job, region) == ((),), never)
+            self.assertEqual(greatest_area(job, region, "bare").size == 0, never)
+            losses = bearable_losses(job, region)
+            self.assertEqual(losses is None or losses >= 0, never)
+            self.assertEqual(most_covered(job, region, 0).covered, len(set(region)) - len(bare_cells(job, region)))
+            for lot in least_added(job, region)[:2]:
+                more = with_lot(job, lot)
+                self.assertIsInstance(never_bare(more, region), Deep)
+                self.assertLessEqual(set(lot), set(needed_ink(more, region)))
+                self.assertIn(ink_of(strip_job(more, region)), list(all_kept(more, region)))
 
 
 class TestBareRunsAndRegions(unittest.TestCase):
