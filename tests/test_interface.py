@@ -3,6 +3,7 @@
 import importlib
 import inspect
 import unittest
+from pathlib import Path
 
 INTERFACE = {
     "ratios": """is_whole(thing, low=None, high=None); is_ratio(thing); make_ratio(top, bottom=1); plus(one, other);
@@ -78,6 +79,14 @@ INTERFACE = {
     "barred": "least_barred(job, region, bars, candidates=None)",
     "looks": "told_by(job, showing); check_looks(job, looks)",
     "rooms": "does_fit(job, looks, slips); rooms_for(job, looks); find_slips(job, looks)",
+    "surely": "sure_at(job, looks, place); two_slips(job, looks, place); which_look(job, looks, places)",
+    "plans": "plan_for(job, looks, places, goal); plan_fault(job, looks, places, goal, plan)",
+    "steering": "beat_steerer(drift, steerer); play_drift(drift, steerer, slip, moves, errors)",
+    "doubts": "doubt_after(drift, history); lead_to(drift, history, slip); sheets_left(drift, doubt)",
+    "changes": "check_changes(job, changes); job_after(job, changes)",
+    "wishes": "check_wishes(job, wishes); broken_wish(job, wishes); broken_fault(job, wishes, broken)",
+    "mends": """find_mends(job, pool, wishes); mends_fault(job, pool, wishes, mends);
+        find_spoilers(job, pool, wishes)""",
 }
 
 CLASSES = {
@@ -106,6 +115,20 @@ CLASSES = {
     ("together", "Counts"): "__init__(self, least, least_slips, most, most_slips); __eq__(self, other)",
     ("covering", "Covering"): "__init__(self, covered, lots); __eq__(self, other)",
     ("rooms", "Rooms"): "__init__(self, rows)",
+    ("plans", "Known"): "__init__(self, showing)",
+    ("plans", "Ask"): "__init__(self, index, answers)",
+    ("plans", "Untold"): "__init__(self, slips, other)",
+    ("drifts", "Drift"): """__init__(self, bound, low, high, every, *, fuzz=(0, 1), grain=(0, 1));
+        __eq__(self, other)""",
+    ("drifts", "Steady"): "__init__(self, drift); __call__(self, seen)",
+    ("steering", "Beaten"): "__init__(self, slip, seen, moves, sheet)",
+    ("steering", "Play"): "__init__(self, seen, corrections, slips, out)",
+    ("doubts", "Led"): "__init__(self, slip, moves)",
+    ("wishes", "Broken"): "__init__(self, index, why)",
+    ("mends", "Mends"): "__init__(self, least, losses)",
+    ("mends", "Spoiler"): "__init__(self, choice, added, broken)",
+    ("bench", "Bench"): """__init__(self, job); __len__(self); __iter__(self); put(self, change);
+        take_back(self, number); broken_now(self, wishes); trial(self); tried(self, call)""",
 }
 
 
@@ -137,9 +160,16 @@ class TestInterface(unittest.TestCase):
         self.assertIsInstance(vars(plate)["from_rows"], staticmethod)
         self.assertEqual(str(inspect.signature(plate.from_rows)), "(rows, hiding=False, bound=(1, 1))")
         for module, name, told_property in (("jobs", "Job", "field"), ("runs", "Run", "length"),
-                                            ("rectangles", "Rectangle", "sides")):
+                                            ("rectangles", "Rectangle", "sides"), ("plans", "Known", "depth"),
+                                            ("plans", "Ask", "depth"), ("drifts", "Drift", "leeway"),
+                                            ("drifts", "Steady", "aim"), ("mends", "Mends", "needed")):
             found = vars(importlib.import_module(f"neverbare.{module}"))[name]
             self.assertIsInstance(vars(found)[told_property], property)
+
+    def test_every_module_of_the_interface_is_there(self):
+        folder = Path(importlib.import_module("neverbare").__file__).parent
+        found = {path.stem for path in folder.iterdir() if path.name not in ("__init__.py", "__pycache__")}
+        self.assertEqual(found, set(INTERFACE) | {module for module, _ in CLASSES} | {"errors"})
 
     def test_generators(self):
         for module, name in (("slips", "all_whole_slips"), ("stands", "all_stands"), ("leastjob", "alike_jobs"),

@@ -208,7 +208,8 @@ class TestLanguage(unittest.TestCase):
         """What they run is told here by name; none of it assigns to items or attributes, or appends."""
         run = {"is_cell", "is_sequence", "is_whole", "grown_cells", "shrunk_cells", "near_cells", "check_cells",
                "check_reach", "is_reach", "grown", "deep", "field", "length", "sides", "minus", "_lowest", "gcd",
-               "__contains__", "__eq__", "__len__", "__iter__"}
+               "depth", "leeway", "aim", "needed", "good_ends", "least_of", "greatest_of", "middle_of_two", "plus",
+               "times", "negative", "compare", "__contains__", "__eq__", "__len__", "__iter__"}
         for where, node in self.each(ast.FunctionDef):
             if node.name in run:
                 for part in ast.walk(node):

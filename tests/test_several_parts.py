@@ -2,41 +2,56 @@
 
 import unittest
 
-from neverbare.adding import least_added
+from neverbare.adding import all_added, least_added
 from neverbare.areas import area_at, greatest_area, least_area
+from neverbare.barred import least_barred
 from neverbare.bars import bar_holds
+from neverbare.bench import Bench
+from neverbare.changes import job_after
 from neverbare.covering import most_covered
 from neverbare.exchange import may_exchange, may_switch, orders_alike
 from neverbare.jobs import Job
+from neverbare.jobtext import job_text, parse_job
 from neverbare.jointly import BareAt, all_bare
 from neverbare.keeping import all_kept
 from neverbare.leastjob import alike_jobs, count_alike, greatest_job, least_job
 from neverbare.losing import bearable_losses
+from neverbare.mends import find_mends, find_spoilers
 from neverbare.mixing import Unmixed, never_mixed
 from neverbare.needless import needed_ink, strip_job
 from neverbare.needs import ink_of, with_lot
 from neverbare.pieces import piece_at
 from neverbare.pictures import areas_of
-from neverbare.places import showings_at
+from neverbare.places import showings_at, surely_shows
+from neverbare.plans import Untold, plan_fault, plan_for
 from neverbare.plates import Plate
+from neverbare.ratios import times
 from neverbare.rectangles import greatest_rectangles, rectangle_for
 from neverbare.regions import Deep, bare_cells, never_bare
+from neverbare.rooms import does_fit, find_slips, rooms_for
 from neverbare.runs import runs_at
 from neverbare.samples import apart_samples
 from neverbare.sheets import sheet_of, table_of
+from neverbare.slips import finer_slips, mirrored_slips, turned_slips
 from neverbare.spots import stands_of, table_at
 from neverbare.stands import corners_of
 from neverbare.sure import sure_stretches, surely_inked
+from neverbare.surely import sure_at, which_look
 from neverbare.together import Together, always_together, hole_counts, piece_counts
 from neverbare.touching import may_touch, must_touch
 from neverbare.unseen import unseen_inks
 from neverbare.widest import widest_run
+from neverbare.wishes import broken_fault, broken_wish
 from tests.helping import (
-    Draws, all_kinds, as_ratio, at_axis, cells_about, drawn_case, drawn_jobs, drawn_slips, number, on_no_line,
-    plain_lines, seen_otherwise,
+    Draws, all_kinds, as_ratio, at_axis, cells_about, deep_regions, dense_jobs, drawn_case, drawn_jobs, drawn_slips,
+    free_ink, number, on_no_line, place_in, plain_lines, plain_showing, seen_otherwise,
 )
+from tests.test_bars import drawn_bar
 from tests.test_pieces import all_groups
+from tests.test_rooms import drawn_looks
+from tests.test_surely import free_place
 from tests.test_together import some_jobs
+from tests.test_wishes import drawn_wish
 
 
 def width_of(job, axis, window, band, kind):
@@ -221,6 +236,144 @@ class TestBars(unittest.TestCase):
                 self.assertIsInstance(never_bare(more, region), Deep)
                 self.assertLessEqual(set(lot), set(needed_ink(more, region)))
                 self.assertIn(ink_of(strip_job(more, region)), list(all_kept(more, region)))
+
+
+def led_place(place, job, way):
+    """The place that corresponds to one, mirrored along x, along y, or turned."""
+    x, y = number(place[0]), number(place[1])
+    led = ((job.width - x, y), (x, job.height - y), (job.height - y, x))[way]
+    return as_ratio(led[0]), as_ratio(led[1])
+
+
+def led_slips(slips, way):
+    return mirrored_slips(slips, way) if way < 2 else turned_slips(slips)
+
+
+class TestLooks(unittest.TestCase):
+    def test_looks_are_led_along(self):
+        draws = Draws(733)
+        for job in drawn_jobs(734, 60):
+            slips = drawn_slips(draws, job)
+            looks = drawn_looks(draws, job, 1 + draws.below(3), slips)
+            places = [free_place(draws, job) for _ in range(3)]
+            rooms = [len(row) for row in rooms_for(job, looks).rows]
+            plan = plan_for(job, looks, places[:2], places[2])
+            for way, (other, _) in enumerate(seen_otherwise(job)):
+                moved = [(led_place(place, job, way), showing) for place, showing in looks]
+                goals = [led_place(place, job, way) for place in places]
+                self.assertTrue(does_fit(other, moved, led_slips(slips, way)))
+                self.assertTrue(does_fit(other, moved, led_slips(find_slips(job, looks), way)))
+                self.assertEqual([len(row) for row in rooms_for(other, moved).rows], rooms)
+                for place, goal in zip(places, goals):
+                    self.assertEqual(sure_at(other, moved, goal), sure_at(job, looks, place))
+                self.assertEqual(which_look(other, moved, goals), which_look(job, looks, places))
+                led = plan_for(other, moved, goals[:2], goals[2])
+                self.assertIs(led.__class__, plan.__class__)
+                if not isinstance(plan, Untold):
+                    self.assertEqual(led.depth, plan.depth)
+                    self.assertIsNone(plan_fault(other, moved, goals[:2], goals[2], plan))
+
+    def test_looks_at_a_finer_job(self):
+        """Its slips that are twice as great show at places twice as far what the job shows."""
+        draws = Draws(735)
+        for job in drawn_jobs(736, 40, width=3, height=2):
+            slips = drawn_slips(draws, job)
+            looks = drawn_looks(draws, job, 2, slips)
+            finer, twice = job.finer(2), finer_slips(slips, 2)
+            moved = [((times(x, (2, 1)), times(y, (2, 1))), showing) for (x, y), showing in looks]
+            if all(on_no_line(finer, twice, place) for place, _ in moved):
+                self.assertTrue(does_fit(finer, moved, twice))
+                goal = free_place(draws, job)
+                far = (times(goal[0], (2, 1)), times(goal[1], (2, 1)))
+                if on_no_line(finer, twice, far) and all(plate.bound == (1, 1) for plate in job):
+                    self.assertEqual(sure_at(finer, moved, far), sure_at(job, looks, goal))
+
+    def test_what_is_sure_without_looks_is_what_the_cell_shows(self):
+        draws = Draws(737)
+        for job in drawn_jobs(738, 60):
+            cell = draws.one_of(cells_about(job))
+            place = place_in(draws, cell)
+            shown = tuple(showing for showing, _ in showings_at(job, cell))
+            found = sure_at(job, (), place)
+            self.assertLessEqual(set(found), set(shown))
+            sure = surely_shows(job, cell)
+            if sure is not None:
+                self.assertEqual(found, (sure,))
+            # Slips by any ratio bring what a whole slip shows, where the plate may slip a bit further.
+            if all(min(plate.bound) > 0 for plate in job):
+                self.assertIn(plain_showing(job, slips_over(job, draws, place), place), found)
+
+
+def slips_over(job, draws, place):
+    """Drawn slips with which the place lies on no line."""
+    while True:
+        slips = drawn_slips(draws, job)
+        if on_no_line(job, slips, place):
+            return slips
+
+
+class TestChangesAndWishes(unittest.TestCase):
+    def test_least_added_ink_is_a_least_choice(self):
+        draws = Draws(739)
+        met = 0
+        for job in dense_jobs(740, 120, bounds=((0, 0), (1, 0))):
+            region = [(1, 0), (1, 1)][:1 + draws.below(2)]
+            inks = sorted({ink for lot in all_added(job, region) for ink in lot})
+            if not 0 < len(inks) <= 5:
+                continue
+            met += 1
+            found = find_mends(job, [("ink", *ink) for ink in inks], [("never bare", region)])
+            lots = [tuple(inks[index] for index in choice) for choice in found.least]
+            self.assertEqual(lots, list(all_added(job, region)))
+            self.assertEqual(find_spoilers(job, [("ink", *ink) for ink in inks], [("never bare", region)]), ())
+        self.assertGreater(met, 10)
+
+    def test_least_barred_ink_is_the_first_of_the_least_choices(self):
+        draws = Draws(741)
+        for job in dense_jobs(742, 80, bounds=((0, 0), (1, 0))):
+            free = free_ink(job)[:4]
+            if not free:
+                continue
+            bars = [drawn_bar(draws, job)]
+            found = find_mends(job, [("ink", *ink) for ink in free], [("never bare", [(1, 0)]), *bars])
+            lots = [tuple(free[index] for index in choice) for choice in found.least]
+            self.assertEqual(least_barred(job, [(1, 0)], bars, free),
+                             tuple(lot for lot in lots if len(lot) == len(lots[0])))
+
+    def test_wiping_needed_and_needless_ink(self):
+        for job, region in deep_regions(743, 80):
+            wishes = [("never bare", region)]
+            needed = needed_ink(job, region)
+            for plate, cell in ink_of(job):
+                broken = broken_wish(job_after(job, [("wipe", plate, cell)]), wishes)
+                self.assertEqual(broken is not None, (plate, cell) in needed)
+                if broken is not None:
+                    self.assertIsNone(broken_fault(job.without_ink(plate, cell), wishes, broken))
+
+    def test_jobs_that_look_alike_grant_the_same(self):
+        draws = Draws(745)
+        for job in dense_jobs(746, 60, bounds=((0, 0), (1, 0))):
+            wish = drawn_wish(draws, job)
+            if wish[0] in ("never bare", "together", "widest", "shows", "never mixed"):
+                self.assertEqual(broken_wish(least_job(job), [wish]) is None, broken_wish(job, [wish]) is None)
+
+    def test_a_bench_whose_job_is_read_back(self):
+        draws = Draws(747)
+        for job in dense_jobs(748, 30, bounds=((0, 0), (1, 0))):
+            bench = Bench(parse_job(job_text(job)))
+            wishes = [drawn_wish(draws, job)]
+            pool = [("ink", draws.below(len(job)), draws.one_of(job.field)) for _ in range(4)]
+            for choice in find_mends(job, pool, wishes).least[:2]:
+                text = job_text(bench.job)
+
+                def mended(held):
+                    for index in choice:
+                        held.put(pool[index])
+                    return parse_job(job_text(held.job)), held.broken_now(wishes)
+                found, broken = bench.tried(mended)
+                self.assertIsNone(broken)
+                self.assertEqual(found, job_after(job, [pool[index] for index in choice]))
+                self.assertEqual((job_text(bench.job), len(bench)), (text, 0))
 
 
 class TestBareRunsAndRegions(unittest.TestCase):
