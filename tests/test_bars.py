@@ -22,7 +22,8 @@ def as_lists(thing):
 def no_bars():
     """Things that are no bars of the example job."""
     found = [(), (WIDE,), ("Widest", *WIDE[1:]), WIDE[:5], (*WIDE, 0), "widest", "seen", ("never bare", ()),
-             ("together", (0,)), (["seen"], 0, (4, 0)), ({}, 0, (4, 0)), (0, 0, (4, 0)), *ODD_THINGS]
+             ("together", (0,)), ("ink", 0, (4, 0)), ("never mixed", 0, (4, 0)), (["seen"], 0, (4, 0)),
+             ({}, 0, (4, 0)), (0, 0, (4, 0)), *ODD_THINGS]
     for at, wrong in ((1, BAD_AXES), (2, BAD_WINDOWS), (3, BAD_BANDS), (4, BAD_KINDS)):
         found.extend((*WIDE[:at], thing, *WIDE[at + 1:]) for thing, _ in wrong)
     found.extend((*WIDE[:5], most) for most in (-1, (0, 1), (1, 1), *ODD_THINGS))
